@@ -1,0 +1,1 @@
+"""Wavespots: which moments settle all signals of told waves."""

@@ -1,0 +1,86 @@
+"""Sizes, and numbers of a size: sums of powers of its first root of one times fractions."""
+
+from math import gcd
+
+from wavespots.errors import InvalidCount, InvalidIndex, InvalidSize
+from wavespots.wholes import ROUND_POLYNOMIALS, number_of, whole_root
+
+LEAST_SIZE = 2
+GREATEST_SIZE = 12
+
+
+def is_whole_from(value, low, high):
+    """Whether a value, whatever it is, is a whole number from low up to high."""
+    return type(value) is int and low <= value <= high
+
+
+def is_size(value):
+    """Whether a value, whatever it is, is a size."""
+    return is_whole_from(value, LEAST_SIZE, GREATEST_SIZE)
+
+
+def check_size(size):
+    """Refuse what is no size."""
+    if not is_size(size):
+        raise InvalidSize(size)
+
+
+def check_index(index, bound):
+    """Refuse what is no whole number from 0 to one less than the bound."""
+    if not is_whole_from(index, 0, bound - 1):
+        raise InvalidIndex(index)
+
+
+def check_many(size, many):
+    """Refuse what is no whole number from 1 to the size."""
+    if not is_whole_from(many, 1, size):
+        raise InvalidCount(many)
+
+
+def round_polynomial(size):
+    """The whole numbers of the round polynomial of the size, the lowest power first."""
+    check_size(size)
+    return ROUND_POLYNOMIALS[size]
+
+
+def degree_of(size):
+    """The degree of the round polynomial of the size: phi."""
+    return len(round_polynomial(size)) - 1
+
+
+def is_fraction(value):
+    """Whether a value, whatever it is, is a fraction."""
+    if type(value) is not tuple or len(value) != 2:
+        return False
+    above, below = value
+    if type(above) is not int or type(below) is not int:
+        return False
+    return below > 0 and gcd(above, below) == 1
+
+
+def is_number(size, value):
+    """Whether a value, whatever it is, is a number of the size."""
+    degree = degree_of(size)
+    if type(value) is not tuple or len(value) != degree:
+        return False
+    return all([is_fraction(part) for part in value])
+
+
+def first_no_number(size, row):
+    """The index of the first thing in a row that is no number of the size; None."""
+    for index, value in enumerate(row):
+        if not is_number(size, value):
+            return index
+    return None
+
+
+def root(size, step):
+    """The power of the first root of one that has this step."""
+    check_size(size)
+    check_index(step, size)
+    return number_of(whole_root(size, step), 1)
+
+
+def nought(size):
+    """The number 0."""
+    return number_of((0,) * degree_of(size), 1)
