@@ -6,6 +6,7 @@ any norm of a minor of a table (whose columns are no longer than the square root
 so that just those minors are nought that are nought modulo the prime.
 """
 
+from cmath import exp, pi
 from fractions import Fraction
 from functools import lru_cache
 from itertools import combinations
@@ -60,6 +61,17 @@ def times(size, number, other):
     return tuple(divided(product, round_of(size))[1])
 
 
+def scaled(number, factor):
+    return tuple(factor * part for part in number)
+
+
+def total(size, numbers):
+    found = nought(size)
+    for number in numbers:
+        found = add(found, number)
+    return found
+
+
 def from_turns(size, turns):
     """The sum of turns[k] z^k."""
     return tuple(Fraction(part) for part in divided(turns, round_of(size))[1])
@@ -79,6 +91,11 @@ def mirrored(size, number):
     for at, part in enumerate(number):
         turns[-at % size] += part
     return from_turns(size, turns)
+
+
+def approximate(size, number):
+    """The complex number that it is, rounded: without any round polynomial."""
+    return sum(float(part) * exp(2j * pi * at / size) for at, part in enumerate(number))
 
 
 def read(number):
@@ -109,6 +126,19 @@ def values_of(size, parts):
 def parts_of(size, signal):
     sums = [turned_sum(size, signal, [-moment * step for moment in range(size)]) for step in range(size)]
     return tuple(tuple(each / size for each in part) for part in sums)
+
+
+def round_product(size, signal, other):
+    """The sums of all f(i) g(j - i)."""
+    return tuple(
+        total(size, [times(size, signal[at], other[moment - at]) for at in range(size)]) for moment in range(size)
+    )
+
+
+def energy(size, signal, moments=None):
+    """The sum of f(j) times f(j) mirrored over the moments, or else over all."""
+    values = signal if moments is None else [signal[moment] for moment in moments]
+    return total(size, [times(size, value, mirrored(size, value)) for value in values])
 
 
 def places(signal):
@@ -233,6 +263,14 @@ def settles(size, moments, steps):
 
 def tells(size, moments, many):
     return all(settles(size, moments, steps) for steps in lots_of(size, min(2 * many, size)))
+
+
+def units(size):
+    return [unit for unit in range(1, size) if gcd(unit, size) == 1]
+
+
+def divisors(size):
+    return [count for count in range(1, size + 1) if size % count == 0]
 
 
 def zero_steps(size, moments):

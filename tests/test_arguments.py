@@ -3,9 +3,9 @@
 import unittest
 from inspect import signature
 from itertools import combinations
-from math import comb
+from math import comb, gcd
 
-from wavespots import errors, few, lots, numbers, pairs, settling, signals, unknown
+from wavespots import errors, few, lost, lots, numbers, pairs, settling, signals, unknown
 
 SIZE = 6
 NIL, ONE, HALF = (0, 1), (1, 1), (-1, 2)
@@ -26,32 +26,45 @@ NO_LOTS = (
 )
 
 
+NO_FRACTIONS = (
+    None, True, 0, 1, "11", b"11", (), [], {}, object(), (1,), (1, 1, 1), [1, 1], (0, 2), (2, 4), (-3, 3), (1, 0), (0, 0),
+    (0, -1), (1, -1), (-1, -2), (1, -10 ** 399), (True, 1), (1, True), (False, 1), (None, 1), (1, None), ("1", 1),
+    (1, "1"), ((1, 1), (1, 1)), (ONE,), NUMBER, (10 ** 300, 10 ** 300),
+)
+
+
 def given(error, values):
     return [(value, error, "given", value) for value in values]
 
 
-def rows(error, right, lengths):
-    """Wrong rows of numbers; lengths are those that are wrong by themselves."""
+def rows(error, right, lengths, wrong_ones=NO_NUMBERS):
+    """Wrong rows of numbers or fractions; lengths are those that are wrong by themselves."""
     found = [(value, error, "index", None) for value in NO_WHOLE + (list(right), "number", dict(enumerate(right)))
              if value != () or 0 in lengths]
     for length in lengths:
-        found.append(((NUMBER,) * length, error, "index", None))
+        found.append(((right[0],) * length, error, "index", None))
         found.append(((None,) * length, error, "index", None))
     for at in range(len(right)):
-        for wrong in NO_NUMBERS:
+        for wrong in wrong_ones:
             found.append((right[:at] + (wrong,) + right[at + 1:], error, "index", at))
     for at, later in combinations(range(len(right)), 2):
-        row = list(right)
-        row[at], row[later] = (ONE,), None
-        found.append((tuple(row), error, "index", at))
+        for wrong, other in (((ONE,), None), (None, 7), (True, (ONE, ONE, ONE))):
+            row = list(right)
+            row[at], row[later] = wrong, other
+            found.append((tuple(row), error, "index", at))
     return found
 
 
 SIZES = given(errors.InvalidSize, NO_WHOLE + (-2, 0, 1, 13, 14, 10 ** 399, -10 ** 399))
 STEPS = given(errors.InvalidIndex, NO_WHOLE + (-1, SIZE, SIZE + 1, 10 ** 399, -10 ** 399))
 COUNTS = given(errors.InvalidCount, NO_WHOLE + (0, -1, SIZE + 1, 10 ** 399, -10 ** 399))
+LOST = given(errors.InvalidCount, NO_WHOLE + (-1, -2, SIZE + 1, SIZE + 2, 10 ** 399, -10 ** 399))
 DIVISORS = given(errors.InvalidCount, NO_WHOLE + (0, -1, -3, 4, 5, SIZE + 1, 2 * SIZE, 10 ** 399))
 STARTS = given(errors.InvalidIndex, NO_WHOLE + (-1, 3, 4, SIZE, 10 ** 399))
+FACTORS = given(errors.InvalidIndex, NO_WHOLE + (-5, -1, 0, 2, 3, 4, SIZE, SIZE + 1, 10 ** 399, -10 ** 399 - 1))
+NUMBERS = given(errors.InvalidNumber, NO_NUMBERS)
+TURNS = rows(errors.InvalidTurns, (ONE, NIL, HALF, (7, 5), NIL, (-10 ** 300, 3 ** 200)), (0, 1, 2, SIZE - 1, SIZE + 1),
+             NO_FRACTIONS)
 LOTS = given(errors.InvalidLot, NO_LOTS)
 FULL_LOTS = LOTS + given(errors.InvalidLot, ((),))
 SIGNALS = rows(errors.InvalidSignal, SIGNAL, (0, 1, SIZE - 1, SIZE + 1))
@@ -79,8 +92,21 @@ FUNCTIONS = (
     (numbers.degree_of, ()),
     (numbers.is_number, (("value", NUMBER, []),)),
     (numbers.root, (("step", 5, STEPS),)),
+    (numbers.number_from, (("turns", (ONE, NIL, HALF, (7, 5), NIL, (-10 ** 300, 3 ** 200)), TURNS),)),
+    (numbers.plus, (("number", NUMBER, NUMBERS), ("other", (HALF, NIL), NUMBERS))),
+    (numbers.times, (("number", NUMBER, NUMBERS), ("other", (HALF, NIL), NUMBERS))),
+    (numbers.mirrored, (("number", NUMBER, NUMBERS),)),
+    (numbers.over, (("number", NUMBER, NUMBERS), ("other", (HALF, NIL), NUMBERS))),
     (lots.is_lot, (("value", (0, 3), []),)),
     (lots.beside, (("lot", (0, 3), LOTS),)),
+    (lots.lot_moved, (("lot", (0, 3), LOTS), ("step", 5, STEPS))),
+    (lots.lot_times, (("lot", (0, 3), LOTS), ("factor", 5, FACTORS))),
+    (lots.rests, (("lot", (0, 3), LOTS), ("many", 3, DIVISORS))),
+    (signals.is_signal, (("value", SIGNAL, []),)),
+    (signals.moved, (("signal", SIGNAL, SIGNALS), ("step", 5, STEPS))),
+    (signals.turned, (("signal", SIGNAL, SIGNALS), ("step", 5, STEPS))),
+    (signals.round_product, (("signal", SIGNAL, SIGNALS), ("other", SIGNAL[::-1], SIGNALS))),
+    (signals.energy, (("signal", SIGNAL, SIGNALS),)),
     (signals.parts_of, (("signal", SIGNAL, SIGNALS),)),
     (signals.signal_from, (("parts", SIGNAL, SIGNALS),)),
     (signals.wave, (("step", 5, STEPS),)),
@@ -88,6 +114,9 @@ FUNCTIONS = (
     (signals.waves_of, (("signal", SIGNAL, SIGNALS),)),
     (settling.rank_of, (("moments", (0, 3), LOTS), ("waves", (0, 1), LOTS))),
     (settling.settles, (("moments", (0, 3), LOTS), ("waves", (0, 1), LOTS))),
+    (settling.unseen, (("moments", (0, 3), LOTS), ("waves", (0, 1), LOTS))),
+    (lost.survives, (("waves", (0, 3), LOTS), ("many", 2, LOST))),
+    (lost.lost_signal, (("waves", (0, 3), LOTS), ("many", 2, LOST))),
     (settling.signal_with,
      (("moments", (0, 1, 3), LOTS), ("waves", (0, 1), LOTS), ("values", SIGNAL[:3], VALUES))),
 )
@@ -114,6 +143,29 @@ class ArgumentsTest(unittest.TestCase):
         for function, parameters in FUNCTIONS:
             names = [name for name, _, _ in all_parameters(parameters)]
             self.assertEqual(list(signature(function).parameters), names)
+
+    def test_each_function_is_defined_in_its_file(self):
+        modules = (few, lost, lots, numbers, pairs, settling, signals, unknown)
+        for function in [function for function, _ in FUNCTIONS] + [numbers.is_size]:
+            there = [module for module in modules if module.__name__ == function.__module__]
+            self.assertEqual([getattr(module, function.__name__) for module in there], [function])
+
+    def test_all_functions_are_there(self):
+        for module, names in (
+            (numbers, "is_size degree_of round_polynomial is_number root number_from plus times mirrored over"),
+            (signals, "is_signal parts_of signal_from wave moved turned round_product energy places_of waves_of"),
+            (lots, "is_lot beside lot_moved lot_times rests"),
+            (lost, "survives lost_signal"),
+        ):
+            for name in names.split():
+                self.assertEqual(getattr(module, name).__module__, module.__name__)
+                self.assertIn(getattr(module, name), [function for function, _ in FUNCTIONS] + [numbers.is_size])
+
+    def test_equal_calls_return_equal_results(self):
+        for function, parameters in FUNCTIONS:
+            arguments = [right for _, right, _ in all_parameters(parameters)]
+            copies = [tuple(list(right)) if isinstance(right, tuple) else right for right in arguments]
+            self.assertEqual(function(*arguments), function(*copies))
 
     def test_right_ones_by_position_and_by_name(self):
         for function, parameters in FUNCTIONS:
@@ -169,6 +221,70 @@ class ArgumentsTest(unittest.TestCase):
                     wrong = (count, errors.InvalidCount, "given", count)
                     self.check_raised(few.coset_signal, (size, count, 0, 0), wrong)
 
+    def test_divisors_of_rests(self):
+        for size in range(2, 13):
+            for count in range(-1, 2 * size + 1):
+                if 1 <= count <= size and size % count == 0:
+                    self.assertEqual(lots.rests(size, (size - 1,), count), (0,) * (count - 1) + (1,))
+                else:
+                    self.check_raised(lots.rests, (size, (), count), (count, errors.InvalidCount, "given", count))
+
+    def test_factors(self):
+        for size in range(2, 13):
+            for factor in range(-size, 2 * size + 1):
+                if 1 <= factor < size and gcd(factor, size) == 1:
+                    self.assertEqual(lots.lot_times(size, (1,), factor), (factor,))
+                else:
+                    wrong = (factor, errors.InvalidIndex, "given", factor)
+                    self.check_raised(lots.lot_times, (size, (1,), factor), wrong)
+                    self.check_raised(lots.lot_times, (size, (), factor), wrong)
+
+    def test_steps(self):
+        for size in range(2, 13):
+            signal = (numbers.root(size, 1),) * size
+            for step in range(-2, size + 3):
+                for function, thing in ((signals.moved, signal), (signals.turned, signal), (lots.lot_moved, (0,))):
+                    if 0 <= step < size:
+                        self.assertEqual(len(function(size, thing, step)), len(thing))
+                    else:
+                        self.check_raised(function, (size, thing, step), (step, errors.InvalidIndex, "given", step))
+
+    def test_counts_of_lost_moments(self):
+        for function in (lost.survives, lost.lost_signal):
+            for size in range(2, 11):
+                for many in range(-2, size + 3):
+                    if 0 <= many <= size:
+                        function(size, (), many)
+                    else:
+                        wrong = (many, errors.InvalidCount, "given", many)
+                        self.check_raised(function, (size, (0,), many), wrong)
+
+    def test_lengths_of_turns_and_signals(self):
+        for size in range(2, 13):
+            number = numbers.root(size, 1)
+            for length in range(size + 4):
+                turns, signal = (ONE,) * length, (number,) * length
+                self.assertIs(signals.is_signal(size, signal), length == size)
+                if length != size:
+                    self.check_raised(numbers.number_from, (size, turns), (turns, errors.InvalidTurns, "index", None))
+                    wrong = (signal, errors.InvalidSignal, "index", None)
+                    self.check_raised(signals.energy, (size, signal), wrong)
+                    self.check_raised(signals.signal_from, (size, signal), wrong)
+                    self.check_raised(signals.round_product, (size, (number,) * size, signal), wrong)
+
+    def test_lengths_of_numbers(self):
+        for size in range(2, 13):
+            degree = numbers.degree_of(size)
+            for length in range(degree + 3):
+                number = (ONE,) * length
+                self.assertIs(numbers.is_number(size, number), length == degree)
+                if length != degree:
+                    wrong = (number, errors.InvalidNumber, "given", number)
+                    self.check_raised(numbers.mirrored, (size, number), wrong)
+                    for function in (numbers.plus, numbers.times, numbers.over):
+                        self.check_raised(function, (size, number, (ONE,) * degree), wrong)
+                        self.check_raised(function, (size, (ONE,) * degree, number), wrong)
+
     def test_lengths_of_values(self):
         for size in range(2, 13):
             number = numbers.root(size, 1)
@@ -187,7 +303,13 @@ class ArgumentsTest(unittest.TestCase):
                 self.check_raised(
                     unknown.few_back, (size, 0, (number, wrong)), (wrong, errors.InvalidValues, "index", 1))
                 signal = (wrong,) + (number,) * (size - 1)
-                self.check_raised(few.is_coset_signal, (size, signal), (signal, errors.InvalidSignal, "index", 0))
+                for function in (few.is_coset_signal, signals.energy, signals.parts_of, signals.signal_from):
+                    self.check_raised(function, (size, signal), (signal, errors.InvalidSignal, "index", 0))
+                late = (number,) * (size - 1) + (wrong,)
+                self.check_raised(signals.moved, (size, late, 0), (late, errors.InvalidSignal, "index", size - 1))
+                self.check_raised(
+                    signals.round_product, (size, late, signal), (late, errors.InvalidSignal, "index", size - 1))
+                self.check_raised(numbers.mirrored, (size, wrong), (wrong, errors.InvalidNumber, "given", wrong))
 
 
 class IsTest(unittest.TestCase):
@@ -203,11 +325,90 @@ class IsTest(unittest.TestCase):
         for value in NO_NUMBERS:
             self.assertIs(numbers.is_number(SIZE, value), False)
 
+    def test_is_signal(self):
+        self.assertIs(signals.is_signal(SIZE, SIGNAL), True)
+        for value, *_ in SIGNALS:
+            self.assertIs(signals.is_signal(SIZE, value), False)
+
     def test_is_lot(self):
         self.assertIs(lots.is_lot(SIZE, ()), True)
         self.assertIs(lots.is_lot(SIZE, (0, 1, 2, 3, 4, 5)), True)
         for value in NO_LOTS:
             self.assertIs(lots.is_lot(SIZE, value), False)
+
+
+class NoDivisorTest(unittest.TestCase):
+    def test_nought_by_each_size(self):
+        for size in range(2, 13):
+            nil = (NIL,) * numbers.degree_of(size)
+            for number in (numbers.root(size, 1), nil, ((10 ** 399, 3),) + nil[1:]):
+                with self.assertRaises(errors.NoDivisor):
+                    numbers.over(size, number, nil)
+            self.assertEqual(numbers.over(size, nil, numbers.root(size, 1)), nil)
+
+    def test_last(self):
+        nil = (NIL, NIL)
+        for arguments, error in (
+            ((1, NUMBER, nil), errors.InvalidSize), ((13, None, nil), errors.InvalidSize),
+            ((True, nil, nil), errors.InvalidSize), ((SIZE, None, nil), errors.InvalidNumber),
+            ((SIZE, (ONE,), nil), errors.InvalidNumber), ((SIZE, (ONE, (0, 2)), nil), errors.InvalidNumber),
+            ((SIZE, list(NUMBER), nil), errors.InvalidNumber), ((SIZE, NUMBER, (NIL, (0, 2))), errors.InvalidNumber),
+            ((SIZE, NUMBER, [NIL, NIL]), errors.InvalidNumber), ((SIZE, NUMBER, (NIL,)), errors.InvalidNumber),
+            ((SIZE, NUMBER, 0), errors.InvalidNumber), ((SIZE, NUMBER, NIL), errors.InvalidNumber),
+            ((SIZE, NUMBER, nil), errors.NoDivisor),
+        ):
+            with self.assertRaises(errors.WaveError) as caught:
+                numbers.over(*arguments)
+            self.assertIs(type(caught.exception), error)
+
+
+class TooManyLostTest(unittest.TestCase):
+    """The number of lots of so many moments is 300 or fewer, or else it is told."""
+
+    def some_waves(self, size):
+        whole = tuple(range(size))
+        return ((), (0,), (size - 1,), (0, 1), (1, 4, 6), whole[::2], whole[:-1], whole)
+
+    def test_all_sizes(self):
+        refused = []
+        for size in range(2, 13):
+            for many in range(size + 1):
+                there = comb(size, many)
+                if there <= 300:
+                    self.assertIs(lost.survives(size, (), many), True)
+                    self.assertIsNone(lost.lost_signal(size, (), many))
+                    self.assertIs(lost.survives(size, (0,), many), many < size)
+                    continue
+                refused.append((size, many, there))
+                for waves in self.some_waves(size):
+                    for function in (lost.survives, lost.lost_signal):
+                        with self.assertRaises(errors.TooMany) as caught:
+                            function(size, waves, many)
+                        self.assertEqual(caught.exception.given, there)
+        self.assertEqual(refused, [
+            (11, 4, 330), (11, 5, 462), (11, 6, 462), (11, 7, 330), (12, 4, 495), (12, 5, 792), (12, 6, 924), (12, 7, 792),
+            (12, 8, 495),
+        ])
+
+    def test_just_below(self):
+        for size, many, there in ((10, 5, 252), (12, 3, 220), (12, 9, 220), (11, 3, 165), (11, 8, 165), (12, 12, 1)):
+            self.assertEqual(comb(size, many), there)
+            self.assertIs(lost.survives(size, (0,), many), many < size)
+            self.assertIs(lost.survives(size, tuple(range(size)), many), False)
+            self.assertIsNotNone(lost.lost_signal(size, tuple(range(size)), many))
+
+    def test_last(self):
+        for function in (lost.survives, lost.lost_signal):
+            for arguments, error in (
+                ((13, (0,), 4), errors.InvalidSize), ((12, (12,), 4), errors.InvalidLot),
+                ((12, [0], 4), errors.InvalidLot), ((12, None, 13), errors.InvalidLot),
+                ((12, (0,), 13), errors.InvalidCount), ((12, (0,), -1), errors.InvalidCount),
+                ((12, (0,), True), errors.InvalidCount), ((12, (0,), "4"), errors.InvalidCount),
+                ((12, (0,), 4), errors.TooMany), ((12, (), 4), errors.TooMany),
+            ):
+                with self.assertRaises(errors.WaveError) as caught:
+                    function(*arguments)
+                self.assertIs(type(caught.exception), error)
 
 
 class TooManyTest(unittest.TestCase):

@@ -1,18 +1,116 @@
-"""The examples that the document gives under few.py, pairs.py and unknown.py, as they stand there."""
+"""The examples that the document gives for what stands, as they stand there."""
 
 import unittest
 
+from wavespots.errors import NoDivisor, TooMany
 from wavespots.few import coset_signal, fewest_waves, is_coset_signal, least_by_line, signal_on
-from wavespots.numbers import root
+from wavespots.lost import lost_signal, survives
+from wavespots.lots import beside, is_lot, lot_moved, lot_times, rests
+from wavespots.numbers import (
+    degree_of, is_number, is_size, mirrored, number_from, over, plus, root, round_polynomial, times,
+)
 from wavespots.pairs import (
     even_pair_of, has_first_sign, has_second_sign, is_even_pair, partner_of, parts_in, zero_steps,
 )
-from wavespots.signals import places_of, wave, waves_of
+from wavespots.settling import rank_of, settles, signal_with, unseen
+from wavespots.signals import (
+    energy, is_signal, moved, parts_of, places_of, round_product, signal_from, turned, wave, waves_of,
+)
 from wavespots.unknown import clash, few_back, tells_few
 
 nil, half, one, two, less = (0, 1), (1, 2), (1, 1), (2, 1), (-1, 1)
 spike = ((one, nil), (nil, nil), (nil, nil), (nil, nil))
 pair = ((one, nil), (one, nil), (nil, nil), (nil, nil))
+
+
+class NumbersExamples(unittest.TestCase):
+    def test_sizes_and_numbers(self):
+        self.assertEqual(
+            [is_size(12), is_size(13), is_size(True), degree_of(12), round_polynomial(6), round_polynomial(12),
+             is_number(4, (nil, half)), is_number(3, (nil,))],
+            [True, False, False, 4, (1, -1, 1), (1, 0, -1, 0, 1), True, False],
+        )
+
+    def test_roots_and_sums_of_them(self):
+        self.assertEqual(
+            [root(4, 1), root(4, 2), root(3, 2), root(6, 2), number_from(3, (one, one, one)),
+             number_from(4, (one, nil, half, two))],
+            [((0, 1), (1, 1)), ((-1, 1), (0, 1)), ((-1, 1), (-1, 1)), ((-1, 1), (1, 1)), ((0, 1), (0, 1)),
+             ((1, 2), (-2, 1))],
+        )
+
+    def test_reckoning(self):
+        self.assertEqual(
+            [times(4, root(4, 1), root(4, 1)) == root(4, 2), plus(3, root(3, 1), root(3, 2)), mirrored(4, (one, two)),
+             over(4, (one, nil), (one, one)), over(2, (one,), (two,))],
+            [True, ((-1, 1), (0, 1)), ((1, 1), (-2, 1)), ((1, 2), (-1, 2)), ((1, 2),)],
+        )
+
+    def test_no_divisor(self):
+        with self.assertRaises(NoDivisor):
+            over(4, (one, one), (nil, nil))
+
+
+class SignalsExamples(unittest.TestCase):
+    def test_parts_places_and_waves(self):
+        self.assertEqual(
+            [is_signal(4, spike), is_signal(3, spike), parts_of(4, spike)[3], wave(4, 1), waves_of(4, spike),
+             places_of(4, wave(4, 1)), waves_of(4, wave(4, 3))],
+            [True, False, ((1, 4), (0, 1)),
+             (((1, 1), (0, 1)), ((0, 1), (1, 1)), ((-1, 1), (0, 1)), ((0, 1), (-1, 1))), (0, 1, 2, 3), (0, 1, 2, 3),
+             (3,)],
+        )
+
+    def test_moved_turned_and_multiplied(self):
+        self.assertEqual(
+            [signal_from(4, parts_of(4, spike)) == spike, places_of(4, moved(4, spike, 3)),
+             turned(4, wave(4, 1), 2) == wave(4, 3),
+             round_product(4, moved(4, spike, 1), wave(4, 1)) == moved(4, wave(4, 1), 1), energy(4, wave(4, 1)),
+             energy(2, ((two,), (less,)))],
+            [True, (3,), True, True, ((4, 1), (0, 1)), ((5, 1),)],
+        )
+
+
+class SettlingExamples(unittest.TestCase):
+    """Those that speak of lots, and of ranks and signals that lots settle or not."""
+
+    def test_lots(self):
+        self.assertEqual(
+            [is_lot(4, (0, 2)), is_lot(4, (2, 0)), is_lot(4, (4,)), is_lot(4, ()), beside(4, (0, 2)),
+             lot_moved(4, (0, 2, 3), 2), lot_times(4, (0, 1, 2), 3), rests(4, (0, 2, 3), 2)],
+            [True, False, False, True, (1, 3), (0, 1, 2), (0, 2, 3), (2, 1)],
+        )
+
+    def test_ranks(self):
+        self.assertEqual(
+            [rank_of(4, (0, 2), (0, 2)), rank_of(4, (1, 3), (1, 3)), settles(4, (0, 2), (0, 2)),
+             settles(4, (0, 2), (0, 1)), settles(4, (), ()), unseen(4, (0, 2), (0, 1))],
+            [1, 1, False, True, True, None],
+        )
+
+    def test_signals(self):
+        none, unit = (nil, nil), (one, nil)
+        found = unseen(4, (0, 2), (0, 2))
+        self.assertEqual(
+            [found[0], found[2], found[1] == found[3], found[1] == none,
+             signal_with(4, (0, 2), (0, 2), (unit, none)), signal_with(4, (0, 2), (0, 1), (unit, unit))],
+            [((0, 1), (0, 1)), ((0, 1), (0, 1)), True, False, None,
+             (((1, 1), (0, 1)), ((1, 1), (0, 1)), ((1, 1), (0, 1)), ((1, 1), (0, 1)))],
+        )
+
+
+class LostExamples(unittest.TestCase):
+    def test_survives(self):
+        self.assertEqual(
+            [survives(4, (0, 2), 1), survives(4, (0, 2), 2), survives(4, (0, 1), 2), survives(4, (0, 1), 3),
+             survives(4, (), 4), survives(5, (0, 2), 3), lost_signal(4, (0, 1), 2)],
+            [True, False, True, False, True, True, None],
+        )
+
+    def test_too_many(self):
+        with self.assertRaises(TooMany) as caught:
+            survives(12, (0, 1), 4)
+        self.assertEqual(caught.exception.given, 495)
 
 
 class FewExamples(unittest.TestCase):

@@ -12,13 +12,9 @@ SMALL = range(2, 9)
 GREAT = range(9, 13)
 
 
-def divisors(size):
-    return [count for count in range(1, size + 1) if size % count == 0]
-
-
 def cosets(size):
     """All divisors, starts and steps, and the values that [17] tells for them."""
-    for divisor in divisors(size):
+    for divisor in reckon.divisors(size):
         for start in range(divisor):
             for step in range(size):
                 values = tuple(
@@ -114,8 +110,8 @@ class LineTest(unittest.TestCase):
     def test_line(self):
         for size in reckon.SIZES:
             for many in range(1, size + 1):
-                low = max(count for count in divisors(size) if count <= many)
-                high = min(count for count in divisors(size) if count >= many)
+                low = max(count for count in reckon.divisors(size) if count <= many)
+                high = min(count for count in reckon.divisors(size) if count >= many)
                 line = Fraction(size * (low + high - many), low * high)
                 least = least_by_line(size, many)
                 self.assertIs(type(least), int)
@@ -123,7 +119,7 @@ class LineTest(unittest.TestCase):
 
     def test_divisors_and_primes(self):
         for size in reckon.SIZES:
-            for count in divisors(size):
+            for count in reckon.divisors(size):
                 self.assertEqual(least_by_line(size, count), size // count)
         for size in PRIMES:
             for many in range(1, size + 1):
@@ -155,7 +151,7 @@ class FewestWavesTest(unittest.TestCase):
 
     def test_cosets_and_neighbours(self):
         for size in reckon.SIZES:
-            for divisor in divisors(size):
+            for divisor in reckon.divisors(size):
                 for start in range(divisor):
                     coset = tuple(range(start, size, divisor))
                     self.assertEqual(fewest_waves(size, coset), divisor)
@@ -216,7 +212,7 @@ class SignalOnTest(unittest.TestCase):
 
     def test_a_lot_of_a_coset_with_too_few_waves(self):
         for size in (4, 6, 8, 9, 10, 12):
-            for divisor in divisors(size)[1:-1]:
+            for divisor in reckon.divisors(size)[1:-1]:
                 moments = tuple(range(0, size, divisor))
                 steps = tuple(range(0, size, size // divisor))
                 self.check(size, moments, steps, True)

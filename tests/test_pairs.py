@@ -50,18 +50,9 @@ def has_partner(size, moments):
     return covers(set(range(size)))
 
 
-def energy_share(size, moments, signal):
-    """The sum of f(j) times f(j) mirrored over the moments."""
-    share = reckon.nought(size)
-    for moment in moments:
-        share = reckon.add(share, reckon.times(size, signal[moment], reckon.mirrored(size, signal[moment])))
-    return share
-
-
 def sees_its_share(size, moments, signal):
-    part = Fraction(len(moments), size)
-    energy = energy_share(size, range(size), signal)
-    return energy_share(size, moments, signal) == tuple(part * each for each in energy)
+    share = reckon.scaled(reckon.energy(size, signal), Fraction(len(moments), size))
+    return reckon.energy(size, signal, moments) == share
 
 
 def parts_by_division(size, moments):

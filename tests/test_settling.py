@@ -3,7 +3,7 @@ import unittest
 from fractions import Fraction
 
 from tests import reckon
-from wavespots.settling import rank_of, settles, signal_with, unsettled_lot
+from wavespots.settling import rank_of, settles, signal_with, unseen, unsettled_lot
 
 
 class SettlingTest(unittest.TestCase):
@@ -26,6 +26,18 @@ class SettlingTest(unittest.TestCase):
             self.assertTrue(settles(size, (), ()))
             self.assertTrue(settles(size, (size - 1,), ()))
             self.assertFalse(settles(size, (), (0,)))
+
+    def test_unseen(self):
+        for size in reckon.SIZES:
+            for moments, steps in self.pairs(size, 60) + [((), (0,)), ((), tuple(range(size))), ((), ()), ((0,), ())]:
+                found = unseen(size, moments, steps)
+                self.assertEqual(found is None, reckon.settles(size, moments, steps))
+                if found is not None:
+                    signal = reckon.read_signal(found)
+                    self.assertEqual((found, len(found)), (reckon.told_signal(signal), size))
+                    self.assertLessEqual(set(reckon.places(signal)), set(reckon.beside(size, moments)))
+                    self.assertLessEqual(set(reckon.waves(size, signal)), set(steps))
+                    self.assertTrue(any(map(any, signal)))
 
     def test_unsettled_lot(self):
         for size in reckon.SIZES:

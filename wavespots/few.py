@@ -1,18 +1,11 @@
 """How few places and waves a signal can have, and which signals have so few."""
 
 from wavespots.elimination import kernel, whole_table
-from wavespots.errors import InvalidCount
 from wavespots.lots import beside, check_full_lot
-from wavespots.numbers import check_index, check_many, check_size, is_whole_from
+from wavespots.numbers import check_divisor, check_index, check_many, check_size
 from wavespots.settling import signal_of, unsettled_lot
 from wavespots.signals import places_of, spread, wave, waves_of
 from wavespots.wholes import scaled, sum_of
-
-
-def check_divisor(size, divisor):
-    """Refuse what is no divisor of the size."""
-    if not is_whole_from(divisor, 1, size) or size % divisor != 0:
-        raise InvalidCount(divisor)
 
 
 def coset_signal(size, divisor, start, step):

@@ -2,8 +2,11 @@
 
 from math import gcd
 
-from wavespots.errors import InvalidCount, InvalidIndex, InvalidSize
-from wavespots.wholes import ROUND_POLYNOMIALS, number_of, whole_root
+from wavespots.errors import InvalidCount, InvalidIndex, InvalidNumber, InvalidSize, InvalidTurns, NoDivisor
+from wavespots.wholes import (
+    ROUND_POLYNOMIALS, cofactor, conjugated, number_of, product_of, rest_by_round, scaled, sum_of, whole_over,
+    whole_root, whole_row,
+)
 
 LEAST_SIZE = 2
 GREATEST_SIZE = 12
@@ -37,6 +40,12 @@ def check_many(size, many):
         raise InvalidCount(many)
 
 
+def check_divisor(size, divisor):
+    """Refuse what is no divisor of the size."""
+    if not is_whole_from(divisor, 1, size) or size % divisor != 0:
+        raise InvalidCount(divisor)
+
+
 def round_polynomial(size):
     """The whole numbers of the round polynomial of the size, the lowest power first."""
     check_size(size)
@@ -66,6 +75,21 @@ def is_number(size, value):
     return all([is_fraction(part) for part in value])
 
 
+def check_number(size, number):
+    """Refuse what is no number of the size."""
+    if not is_number(size, number):
+        raise InvalidNumber(number)
+
+
+def check_turns(size, turns):
+    """Refuse what is no row of as many fractions as the size."""
+    if type(turns) is not tuple or len(turns) != size:
+        raise InvalidTurns(None)
+    for index, part in enumerate(turns):
+        if not is_fraction(part):
+            raise InvalidTurns(index)
+
+
 def first_no_number(size, row):
     """The index of the first thing in a row that is no number of the size; None."""
     for index, value in enumerate(row):
@@ -84,3 +108,53 @@ def root(size, step):
 def nought(size):
     """The number 0."""
     return number_of((0,) * degree_of(size), 1)
+
+
+def number_from(size, turns):
+    """The sum of all turns[k] z^k."""
+    check_size(size)
+    check_turns(size, turns)
+    coefficients, below = whole_over(turns)
+    return number_of(rest_by_round(size, coefficients), below)
+
+
+def check_two(size, number, other):
+    """Refuse a wrong size, and what are no numbers of it."""
+    check_size(size)
+    check_number(size, number)
+    check_number(size, other)
+
+
+def plus(size, number, other):
+    """The sum of two numbers."""
+    check_two(size, number, other)
+    wholes, below = whole_row((number, other))
+    return number_of(sum_of(wholes[0], wholes[1]), below)
+
+
+def times(size, number, other):
+    """The product of two numbers."""
+    check_two(size, number, other)
+    whole, below = whole_over(number)
+    factor, under = whole_over(other)
+    return number_of(product_of(size, whole, factor), below * under)
+
+
+def mirrored(size, number):
+    """The number with 1 / z in the place of z."""
+    check_size(size)
+    check_number(size, number)
+    whole, below = whole_over(number)
+    return number_of(conjugated(size, whole, size - 1), below)
+
+
+def over(size, number, other):
+    """The number whose product with the other one is the first."""
+    check_two(size, number, other)
+    if other == nought(size):
+        raise NoDivisor()
+    whole, below = whole_over(number)
+    divisor, under = whole_over(other)
+    factor = cofactor(size, divisor)
+    norm = product_of(size, divisor, factor)[0]
+    return number_of(scaled(product_of(size, whole, factor), under), below * norm)

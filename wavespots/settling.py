@@ -1,6 +1,6 @@
 """Settling: which moments tell apart all signals with waves in told ones alone."""
 
-from wavespots.elimination import pivots_of, solved, whole_table
+from wavespots.elimination import kernel, pivots_of, solved, whole_table
 from wavespots.errors import InvalidValues
 from wavespots.lots import check_lot, lots_with_nought
 from wavespots.numbers import check_size, first_no_number
@@ -38,6 +38,15 @@ def unsettled_lot(size, moments, many):
 def signal_of(size, waves, row):
     """The signal with the wholes of a row as its parts at the waves, and no others."""
     return signal_from(size, spread(size, waves, [number_of(whole, 1) for whole in row]))
+
+
+def unseen(size, moments, waves):
+    """A signal with waves in these alone, not nought, that is nought at all the moments; None."""
+    check_lots(size, moments, waves)
+    rows = kernel(size, whole_table(size, moments, waves), len(waves))
+    if not rows:
+        return None
+    return signal_of(size, waves, rows[0])
 
 
 def check_values(size, values):

@@ -1,8 +1,16 @@
 """Signals: a number for each moment, and the parts of the waves in them."""
 
 from wavespots.errors import InvalidSignal
-from wavespots.numbers import check_index, check_size, first_no_number, nought, root
-from wavespots.wholes import number_of, sums_of_turns, whole_row
+from wavespots.numbers import check_index, check_size, first_no_number, nought, root, times
+from wavespots.wholes import conjugated, number_of, product_of, scaled, sum_of, sums_of_turns, whole_root, whole_row
+
+
+def is_signal(size, value):
+    """Whether a value, whatever it is, is a signal of the size."""
+    check_size(size)
+    if type(value) is not tuple or len(value) != size:
+        return False
+    return first_no_number(size, value) is None
 
 
 def check_signal(size, signal):
@@ -35,6 +43,46 @@ def wave(size, step):
     check_size(size)
     check_index(step, size)
     return tuple([root(size, step * moment % size) for moment in range(size)])
+
+
+def moved(size, signal, step):
+    """The signal with each value so many moments later, going round."""
+    check_size(size)
+    check_signal(size, signal)
+    check_index(step, size)
+    return tuple([signal[(moment - step) % size] for moment in range(size)])
+
+
+def turned(size, signal, step):
+    """The signal with each value times that of the wave of this step."""
+    check_size(size)
+    check_signal(size, signal)
+    check_index(step, size)
+    return tuple([times(size, value, by) for value, by in zip(signal, wave(size, step))])
+
+
+def round_product(size, signal, other):
+    """The signal with the sum, over all moments i, of f(i) g(j - i) at each moment j."""
+    check_size(size)
+    check_signal(size, signal)
+    check_signal(size, other)
+    row, below = whole_row(signal)
+    others, under = whole_row(other)
+    # the parts of the round product are products: far fewer of them than f(i) g(j - i)
+    pairs = list(zip(sums_of_turns(size, row, -1), sums_of_turns(size, others, -1)))
+    products = [product_of(size, whole, by) for whole, by in pairs]
+    return tuple([number_of(whole, below * under * size) for whole in sums_of_turns(size, products, 1)])
+
+
+def energy(size, signal):
+    """The sum of all values, each times itself mirrored."""
+    check_size(size)
+    check_signal(size, signal)
+    row, below = whole_row(signal)
+    total = scaled(whole_root(size, 0), 0)
+    for whole in row:
+        total = sum_of(total, product_of(size, whole, conjugated(size, whole, size - 1)))
+    return number_of(total, below * below)
 
 
 def places_of(size, signal):

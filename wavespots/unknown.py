@@ -1,15 +1,11 @@
 """Few waves that nobody knows: which moments tell signals with at most so many waves."""
 
-from math import comb
-
 from wavespots.elimination import kernel, whole_table
-from wavespots.errors import InvalidValues, TooMany
-from wavespots.lots import check_full_lot
+from wavespots.errors import InvalidValues
+from wavespots.lots import check_few_lots, check_full_lot
 from wavespots.numbers import check_index, check_many, check_size
 from wavespots.settling import check_values, signal_of, signal_with, unsettled_lot
 from wavespots.wholes import difference_of, scaled, times_root, whole_row
-
-MOST_LOTS = 300
 
 
 def check_told(size, moments, many):
@@ -17,9 +13,7 @@ def check_told(size, moments, many):
     check_size(size)
     check_full_lot(size, moments)
     check_many(size, many)
-    lots = comb(size, min(2 * many, size))
-    if lots > MOST_LOTS:
-        raise TooMany(lots)
+    check_few_lots(size, min(2 * many, size))
 
 
 def tells_few(size, moments, many):

@@ -45,6 +45,12 @@ def whole_row(row):
     return wholes, common
 
 
+def whole_over(number):
+    """A row of fractions as integers over one common denominator, and this denominator."""
+    wholes, common = whole_row((number,))
+    return wholes[0], common
+
+
 def stripped(row):
     """A row of wholes without the common divisor of all their integers."""
     common = 0
