@@ -284,6 +284,145 @@ def zero_steps(size, moments):
     return tuple(found)
 
 
+@lru_cache(2 ** 14)
+def minor(size, moments, steps):
+    """The determinant of a table with as many moments as steps, along its last row: turns, not reduced."""
+    turns = [0] * size
+    if not moments:
+        turns[0] = 1
+    for at, step in enumerate(steps):
+        sign = (-1) ** (len(steps) - 1 - at)
+        rest = minor(size, moments[:-1], steps[:at] + steps[at + 1:])
+        for by, part in enumerate(rest):
+            turns[(by + moments[-1] * step) % size] += sign * part
+    return tuple(turns)
+
+
+def determinant(size, moments, steps):
+    return from_turns(size, minor(size, moments, steps))
+
+
+def first_moments(size, moments, steps):
+    """Each moment with which the rank is greater than with those ahead alone."""
+    found = ()
+    for moment in moments:
+        if rank(size, found + (moment,), steps) > len(found):
+            found += (moment,)
+    return found
+
+
+def first_waves(size, moments, steps):
+    found = ()
+    for step in steps:
+        if rank(size, moments, found + (step,)) > len(found):
+            found += (step,)
+    return found
+
+
+def unseen(size, moments, steps):
+    """An unseen signal by Cramer's rule; None."""
+    rows, columns = first_moments(size, moments, steps), first_waves(size, moments, steps)
+    others = [step for step in steps if step not in columns]
+    if not others:
+        return None
+    chosen = columns + (others[-1],)
+    parts = {}
+    for at, step in enumerate(chosen):
+        parts[step] = scaled(determinant(size, rows, chosen[:at] + chosen[at + 1:]), (-1) ** at)
+    return values_of(size, parts)
+
+
+def conjugated(size, number, unit):
+    """The number with z^unit in the place of z."""
+    turns = [0] * size
+    for at, part in enumerate(number):
+        turns[at * unit % size] += part
+    return from_turns(size, turns)
+
+
+def inverse(size, number):
+    """The number whose product with this one is 1: the other conjugates, divided by the product of all."""
+    others = power(size, 0)
+    for unit in units(size)[1:]:
+        others = times(size, others, conjugated(size, number, unit))
+    norm = times(size, others, number)
+    assert not any(norm[1:])
+    return scaled(others, 1 / norm[0])
+
+
+def way_back(size, moments, steps):
+    """A way back by Cramer's rule, by as few of the moments as there are steps, the last ones first; None."""
+    few = first_moments(size, moments[::-1], steps)
+    if len(few) < len(steps):
+        return None
+    divisor = inverse(size, determinant(size, few, steps))
+    back = []
+    for column in range(len(steps)):
+        others = steps[:column] + steps[column + 1:]
+        row = {moment: nought(size) for moment in moments}
+        for at, moment in enumerate(few):
+            part = determinant(size, few[:at] + few[at + 1:], others)
+            row[moment] = scaled(times(size, part, divisor), (-1) ** (at + column))
+        back.append(tuple(row.values()))
+    return tuple(back)
+
+
+def is_way_back(size, moments, steps, back):
+    """Whether the rows times the table make 1 along the slant, 0 beside."""
+    for row, step in zip(back, steps):
+        for other in steps:
+            made = turned_sum(size, row, [moment * other for moment in moments])
+            if made != scaled(power(size, 0), int(step == other)):
+                return False
+    return True
+
+
+def survives(size, steps, many):
+    """Whether the moments left settle the waves, whichever are lost: each lost lot tried."""
+    return all(settles(size, beside(size, lost), steps) for lost in lots_of(size, many))
+
+
+def settles_all(size, moments):
+    """Whether each lot of as many waves is settled, each tried."""
+    return all(settles(size, moments, steps) for steps in lots_of(size, len(moments)))
+
+
+def is_even(size, moments):
+    for count in divisors(size):
+        counts = [sum(1 for moment in moments if moment % count == rest) for rest in range(count)]
+        if max(counts) > min(counts) + 1:
+            return False
+    return True
+
+
+def is_even_pair(size, moments, steps):
+    zeros = zero_steps(size, moments)
+    return all((one - other) % size in zeros for one in steps for other in steps if one != other)
+
+
+def is_partner(size, moments, lot):
+    return sorted((one + other) % size for one in moments for other in lot) == list(range(size))
+
+
+@lru_cache(None)
+def has_partner(size, moments):
+    """Whether moved lots cover each moment just once: the first one that is free is covered next."""
+    moved = [{(moment + by) % size for moment in moments} for by in range(size)]
+
+    def covers(free):
+        if not free:
+            return True
+        first = min(free)
+        return any(covers(free - lot) for lot in moved if first in lot and lot <= free)
+
+    return covers(set(range(size)))
+
+
+def has_just(size, moments, steps):
+    """Whether some signal has just these places and waves."""
+    return has_signal(lambda one, other: freedom(size, one, other), moments, steps)
+
+
 def some_number(chance, size, limit):
     """A number, not nought, by a chance that is the same for each run."""
     while True:

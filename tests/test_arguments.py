@@ -4,30 +4,34 @@ import unittest
 from inspect import signature
 from itertools import combinations
 from math import comb, gcd
+from unittest.mock import ANY
 
-from wavespots import errors, few, lost, lots, numbers, pairs, settling, signals, unknown
+from wavespots import (
+    certificates, checker, errors, every, few, lost, lots, numbers, pairs, settling, signals, unknown,
+)
 
 SIZE = 6
 NIL, ONE, HALF = (0, 1), (1, 1), (-1, 2)
 NUMBER = (ONE, HALF)
 SIGNAL = (NUMBER, (NIL, NIL), NUMBER, (NIL, ONE), NUMBER, (HALF, HALF))
-NO_WHOLE = (True, False, None, "1", b"1", (), (1,), ((1,),), [1], {1}, {1: 1}, object(), len, errors.WaveError)
+# ANY calls itself equal to whatever it is compared with
+NO_WHOLE = (ANY, True, False, None, "1", b"1", (), (1,), ((1,),), [1], {1}, {1: 1}, object(), len, errors.WaveError)
 NO_NUMBERS = (
-    None, True, 0, 1, "number", b"no", (), [], {}, object(), ONE, (ONE,), (ONE, ONE, ONE), [ONE, ONE], (ONE, None),
+    ANY, (ANY, ANY), (ONE, ANY), ((1, ANY), ONE), None, True, 0, 1, "number", b"no", (), [], {}, object(), ONE, (ONE,), (ONE, ONE, ONE), [ONE, ONE], (ONE, None),
     (1, ONE), (ONE, 0), (ONE, True), (ONE, [1, 1]), (ONE, (1,)), (ONE, (1, 1, 1)), (ONE, ()), (ONE, "11"), ((0, 2), ONE),
     ((2, 4), ONE), (ONE, (-3, 3)), ((1, 0), ONE), ((0, 0), ONE), (ONE, (1, -1)), ((-1, -2), ONE), ((True, 1), ONE),
     (ONE, (1, True)), (ONE, (None, 1)), (ONE, (1, "1")), (NUMBER, NUMBER), ((ONE, ONE), ONE),
     ((10 ** 300, 10 ** 300), ONE),
 )
 NO_LOTS = (
-    True, None, 0, 3, "012", b"\x00\x01", [], [0, 2], {0, 2}, {0: 2}, range(3), object(), len,
+    ANY, (ANY,), (0, ANY), True, None, 0, 3, "012", b"\x00\x01", [], [0, 2], {0, 2}, {0: 2}, range(3), object(), len,
     (2, 0), (0, 2, 1), (5, 4, 3), (0, 0), (0, 2, 2), (0, 0, 1), (6,), (0, 6), (0, 1, 2, 3, 4, 5, 6), (-1,), (-1, 0),
     (0, True), (False, 1), (False,), (None,), (0, None), (0, "1"), ("0",), ((0,),), (0, (1,)), ([0],), (0, 10 ** 399),
 )
 
 
 NO_FRACTIONS = (
-    None, True, 0, 1, "11", b"11", (), [], {}, object(), (1,), (1, 1, 1), [1, 1], (0, 2), (2, 4), (-3, 3), (1, 0), (0, 0),
+    ANY, (1, ANY), (ANY, 1), None, True, 0, 1, "11", b"11", (), [], {}, object(), (1,), (1, 1, 1), [1, 1], (0, 2), (2, 4), (-3, 3), (1, 0), (0, 0),
     (0, -1), (1, -1), (-1, -2), (1, -10 ** 399), (True, 1), (1, True), (False, 1), (None, 1), (1, None), ("1", 1),
     (1, "1"), ((1, 1), (1, 1)), (ONE,), NUMBER, (10 ** 300, 10 ** 300),
 )
@@ -112,6 +116,21 @@ FUNCTIONS = (
     (signals.wave, (("step", 5, STEPS),)),
     (signals.places_of, (("signal", SIGNAL, SIGNALS),)),
     (signals.waves_of, (("signal", SIGNAL, SIGNALS),)),
+    (settling.table_of, (("moments", (0, 3), LOTS), ("waves", (0, 1), LOTS))),
+    (settling.way_back, (("moments", (0, 2), LOTS), ("waves", (0, 1), LOTS))),
+    (settling.first_moments, (("moments", (0, 3), LOTS), ("waves", (0, 1), LOTS))),
+    (settling.first_waves, (("moments", (0, 3), LOTS), ("waves", (0, 1), LOTS))),
+    (every.is_even, (("moments", (0, 3), LOTS),)),
+    (every.settles_all, (("moments", (0, 3), LOTS),)),
+    (every.broken_lot, (("moments", (0, 3), LOTS),)),
+    (certificates.certify_settling, (("moments", (0, 3), LOTS), ("waves", (0, 1), LOTS))),
+    (certificates.certify_survival, (("waves", (0, 3), LOTS), ("many", 2, LOST))),
+    (certificates.certify_every, (("moments", (0, 3), LOTS),)),
+    (certificates.certify_few, (("moments", (0, 3), FULL_LOTS), ("many", 3, COUNTS))),
+    (certificates.certify_signal, (("moments", (0, 2), FULL_LOTS), ("waves", (1, 4), FULL_LOTS))),
+    (certificates.certify_pair, (("moments", (0, 3), FULL_LOTS), ("waves", (0, 1), FULL_LOTS))),
+    (certificates.certify_partner, (("moments", (0, 3), FULL_LOTS),)),
+    (certificates.certify_told, (("moments", (0, 1, 3), FULL_LOTS), ("many", 2, COUNTS))),
     (settling.rank_of, (("moments", (0, 3), LOTS), ("waves", (0, 1), LOTS))),
     (settling.settles, (("moments", (0, 3), LOTS), ("waves", (0, 1), LOTS))),
     (settling.unseen, (("moments", (0, 3), LOTS), ("waves", (0, 1), LOTS))),
@@ -145,8 +164,8 @@ class ArgumentsTest(unittest.TestCase):
             self.assertEqual(list(signature(function).parameters), names)
 
     def test_each_function_is_defined_in_its_file(self):
-        modules = (few, lost, lots, numbers, pairs, settling, signals, unknown)
-        for function in [function for function, _ in FUNCTIONS] + [numbers.is_size]:
+        modules = (certificates, checker, every, few, lost, lots, numbers, pairs, settling, signals, unknown)
+        for function in [function for function, _ in FUNCTIONS] + [numbers.is_size, checker.accepts]:
             there = [module for module in modules if module.__name__ == function.__module__]
             self.assertEqual([getattr(module, function.__name__) for module in there], [function])
 
@@ -155,11 +174,24 @@ class ArgumentsTest(unittest.TestCase):
             (numbers, "is_size degree_of round_polynomial is_number root number_from plus times mirrored over"),
             (signals, "is_signal parts_of signal_from wave moved turned round_product energy places_of waves_of"),
             (lots, "is_lot beside lot_moved lot_times rests"),
+            (settling, "table_of rank_of settles unseen way_back signal_with first_moments first_waves"),
             (lost, "survives lost_signal"),
+            (every, "is_even settles_all broken_lot"),
+            (few, "coset_signal is_coset_signal least_by_line fewest_waves signal_on"),
+            (pairs, "zero_steps is_even_pair even_pair_of parts_in has_first_sign has_second_sign partner_of"),
+            (unknown, "tells_few clash few_back"),
+            (checker, "accepts"),
+            (certificates, "certify_settling certify_survival certify_every certify_few certify_signal certify_pair "
+                           "certify_partner certify_told"),
         ):
             for name in names.split():
                 self.assertEqual(getattr(module, name).__module__, module.__name__)
-                self.assertIn(getattr(module, name), [function for function, _ in FUNCTIONS] + [numbers.is_size])
+                without_errors = [numbers.is_size, checker.accepts]
+                self.assertIn(getattr(module, name), [function for function, _ in FUNCTIONS] + without_errors)
+
+    def test_names_where_nothing_is_refused(self):
+        self.assertEqual(list(signature(checker.accepts).parameters), ["claim", "paper"])
+        self.assertEqual(list(signature(numbers.is_size).parameters), ["value"])
 
     def test_equal_calls_return_equal_results(self):
         for function, parameters in FUNCTIONS:
@@ -249,8 +281,51 @@ class ArgumentsTest(unittest.TestCase):
                     else:
                         self.check_raised(function, (size, thing, step), (step, errors.InvalidIndex, "given", step))
 
+    def test_counts(self):
+        for size in range(2, 11):
+            for function in (certificates.certify_few, certificates.certify_told):
+                for many in range(-2, size + 3):
+                    if 1 <= many <= size:
+                        function(size, (0,), many)
+                    else:
+                        wrong = (many, errors.InvalidCount, "given", many)
+                        self.check_raised(function, (size, (0,), many), wrong)
+
+    def test_no_lots(self):
+        """() is let or not, whatever the size is."""
+        for size in range(2, 13):
+            for function, more in (
+                (settling.table_of, ((),)), (settling.rank_of, ((),)), (settling.settles, ((),)), (settling.unseen, ((),)),
+                (settling.way_back, ((),)), (settling.signal_with, ((), ())), (settling.first_moments, ((),)),
+                (settling.first_waves, ((),)), (every.is_even, ()), (every.settles_all, ()), (every.broken_lot, ()),
+                (lost.survives, (0,)), (lost.lost_signal, (0,)), (certificates.certify_settling, ((),)),
+                (certificates.certify_survival, (0,)), (certificates.certify_every, ()),
+            ):
+                function(size, (), *more)
+            for function, more in (
+                (certificates.certify_few, (1,)), (certificates.certify_signal, ((0,),)), (certificates.certify_pair, ((0,),)),
+                (certificates.certify_partner, ()), (certificates.certify_told, (1,)), (few.fewest_waves, ()),
+                (few.signal_on, ((0,),)), (pairs.is_even_pair, ((0,),)), (pairs.partner_of, ()), (unknown.tells_few, (1,)),
+            ):
+                self.check_raised(function, (size, (), *more), ((), errors.InvalidLot, "given", ()))
+            for function in (certificates.certify_signal, certificates.certify_pair, few.signal_on, pairs.is_even_pair):
+                self.check_raised(function, (size, (0,), ()), ((), errors.InvalidLot, "given", ()))
+
+    def test_lengths_of_values_at_moments(self):
+        for size in range(2, 13):
+            number = numbers.root(size, 0)
+            for many in range(size + 1):
+                moments = tuple(range(many))
+                for length in range(size + 2):
+                    values = (number,) * length
+                    if length == many:
+                        self.assertEqual(settling.signal_with(size, moments, (0,), values)[:many], values)
+                    else:
+                        wrong = (values, errors.InvalidValues, "index", None)
+                        self.check_raised(settling.signal_with, (size, moments, (0,), values), wrong)
+
     def test_counts_of_lost_moments(self):
-        for function in (lost.survives, lost.lost_signal):
+        for function in (lost.survives, lost.lost_signal, certificates.certify_survival):
             for size in range(2, 11):
                 for many in range(-2, size + 3):
                     if 0 <= many <= size:
@@ -398,7 +473,7 @@ class TooManyLostTest(unittest.TestCase):
             self.assertIsNotNone(lost.lost_signal(size, tuple(range(size)), many))
 
     def test_last(self):
-        for function in (lost.survives, lost.lost_signal):
+        for function in (lost.survives, lost.lost_signal, certificates.certify_survival):
             for arguments, error in (
                 ((13, (0,), 4), errors.InvalidSize), ((12, (12,), 4), errors.InvalidLot),
                 ((12, [0], 4), errors.InvalidLot), ((12, None, 13), errors.InvalidLot),
@@ -442,7 +517,7 @@ class TooManyTest(unittest.TestCase):
             self.assertIsNone(unknown.clash(size, tuple(range(size)), many))
 
     def test_last(self):
-        for function in (unknown.tells_few, unknown.clash):
+        for function in (unknown.tells_few, unknown.clash, certificates.certify_told):
             for arguments, error in (
                 ((13, (0,), 3), errors.InvalidSize), ((12, (), 3), errors.InvalidLot), ((12, (12,), 3), errors.InvalidLot),
                 ((12, [0], 3), errors.InvalidLot), ((12, (0,), 13), errors.InvalidCount), ((12, (0,), 0), errors.InvalidCount),

@@ -1,8 +1,11 @@
-"""The examples that the document gives for what stands, as they stand there."""
+"""The examples that the document gives, as they stand there."""
 
 import unittest
 
+from wavespots.certificates import certify_every, certify_pair, certify_partner, certify_settling
+from wavespots.checker import accepts
 from wavespots.errors import NoDivisor, TooMany
+from wavespots.every import broken_lot, is_even, settles_all
 from wavespots.few import coset_signal, fewest_waves, is_coset_signal, least_by_line, signal_on
 from wavespots.lost import lost_signal, survives
 from wavespots.lots import beside, is_lot, lot_moved, lot_times, rests
@@ -12,7 +15,9 @@ from wavespots.numbers import (
 from wavespots.pairs import (
     even_pair_of, has_first_sign, has_second_sign, is_even_pair, partner_of, parts_in, zero_steps,
 )
-from wavespots.settling import rank_of, settles, signal_with, unseen
+from wavespots.settling import (
+    first_moments, first_waves, rank_of, settles, signal_with, table_of, unseen, way_back,
+)
 from wavespots.signals import (
     energy, is_signal, moved, parts_of, places_of, round_product, signal_from, turned, wave, waves_of,
 )
@@ -72,8 +77,6 @@ class SignalsExamples(unittest.TestCase):
 
 
 class SettlingExamples(unittest.TestCase):
-    """Those that speak of lots, and of ranks and signals that lots settle or not."""
-
     def test_lots(self):
         self.assertEqual(
             [is_lot(4, (0, 2)), is_lot(4, (2, 0)), is_lot(4, (4,)), is_lot(4, ()), beside(4, (0, 2)),
@@ -82,10 +85,18 @@ class SettlingExamples(unittest.TestCase):
         )
 
     def test_ranks(self):
+        unit, turn = (one, nil), (nil, one)
         self.assertEqual(
-            [rank_of(4, (0, 2), (0, 2)), rank_of(4, (1, 3), (1, 3)), settles(4, (0, 2), (0, 2)),
-             settles(4, (0, 2), (0, 1)), settles(4, (), ()), unseen(4, (0, 2), (0, 1))],
-            [1, 1, False, True, True, None],
+            [table_of(4, (0, 1), (0, 1)) == ((unit, unit), (unit, turn)), rank_of(4, (0, 2), (0, 2)),
+             rank_of(4, (1, 3), (1, 3)), settles(4, (0, 2), (0, 2)), settles(4, (0, 2), (0, 1)), settles(4, (), ())],
+            [True, 1, 1, False, True, True],
+        )
+
+    def test_ways_back_and_first_ones(self):
+        self.assertEqual(
+            [way_back(4, (0, 2), (0, 1)), way_back(4, (0, 2), (0, 2)), unseen(4, (0, 2), (0, 1)),
+             first_moments(4, (0, 2, 3), (0, 2)), first_waves(4, (0, 2), (0, 2, 3))],
+            [((((1, 2), (0, 1)), ((1, 2), (0, 1))), (((1, 2), (0, 1)), ((-1, 2), (0, 1)))), None, None, (0, 3), (0, 3)],
         )
 
     def test_signals(self):
@@ -110,6 +121,27 @@ class LostExamples(unittest.TestCase):
     def test_too_many(self):
         with self.assertRaises(TooMany) as caught:
             survives(12, (0, 1), 4)
+        self.assertEqual(caught.exception.given, 495)
+
+
+class EveryExamples(unittest.TestCase):
+    def test_settles_all(self):
+        self.assertEqual(
+            [is_even(4, (0, 2)), is_even(4, (0, 1)), is_even(6, (0, 3)), is_even(6, (0, 1, 2)), settles_all(4, (0, 1)),
+             settles_all(4, (0, 2)), settles_all(6, (0, 1, 2)), settles_all(5, (0, 2, 3)), settles_all(4, ())],
+            [False, True, False, True, True, False, True, True, True],
+        )
+
+    def test_broken_lot(self):
+        self.assertEqual(
+            [broken_lot(4, (0, 2)) in ((0, 2), (1, 3)),
+             broken_lot(6, (0, 3)) in ((0, 2), (0, 4), (1, 3), (1, 5), (2, 4), (3, 5)), broken_lot(4, (0, 1))],
+            [True, True, None],
+        )
+
+    def test_too_many(self):
+        with self.assertRaises(TooMany) as caught:
+            settles_all(12, (0, 1, 2, 3))
         self.assertEqual(caught.exception.given, 495)
 
 
@@ -182,6 +214,26 @@ class UnknownExamples(unittest.TestCase):
              places_of(4, few_back(4, 3, ((nil, nil), (nil, nil)))),
              few_back(4, 0, (root(4, 0), root(4, 0), root(4, 0), (two, nil)))],
             [True, None, (), None],
+        )
+
+
+class CertificatesExamples(unittest.TestCase):
+    def test_certificates(self):
+        self.assertEqual(
+            [certify_settling(4, (0, 2), (0, 1))[0], certify_settling(4, (0, 2), (0, 2))[0][0],
+             certify_every(4, (0, 1)), certify_every(4, (0, 2))[0], certify_pair(4, (0, 1), (0, 1))[0][0],
+             certify_partner(4, (0, 1))[0]],
+            [("settles", 4, (0, 2), (0, 1)), "unseen", (("settles all", 4, (0, 1)), ()), ("broken", 4, (0, 2)),
+             "uneven pair", ("partner", 4, (0, 1))],
+        )
+
+    def test_accepts(self):
+        self.assertEqual(
+            [accepts(("settles", 4, (0, 2), (0, 1)), way_back(4, (0, 2), (0, 1))),
+             accepts(("unseen", 4, (0, 2), (0, 2)), unseen(4, (0, 2), (0, 2))),
+             accepts(("uneven pair", 4, (0, 1), (0, 1)), (1, 0)), accepts(("partner", 4, (0, 1)), (1, 3)),
+             accepts(("partner", 4, (0, 1)), (0, 1)), accepts(("settles all", 4, (0, 2)), ())],
+            [True, True, True, True, False, False],
         )
 
 

@@ -16,11 +16,6 @@ def counts(size):
     return [many for many in range(size + 1) if comb(size, many) <= MOST_LOTS]
 
 
-def survives_by_all_lots(size, steps, many):
-    """Whether the moments left settle the waves, whichever are lost: each lost lot tried."""
-    return all(reckon.settles(size, reckon.beside(size, lost), steps) for lost in reckon.lots_of(size, many))
-
-
 class LostTest(unittest.TestCase):
     def check(self, size, steps, many, expected):
         with self.subTest(size=size, waves=steps, many=many):
@@ -44,7 +39,7 @@ class LostTest(unittest.TestCase):
         for size in range(2, 6):
             for steps in reckon.lots(size):
                 for many in range(size + 1):
-                    self.check(size, steps, many, survives_by_all_lots(size, steps, many))
+                    self.check(size, steps, many, reckon.survives(size, steps, many))
 
     def test_all_lots_of_small_sizes(self):
         for size in range(2, 9):
@@ -62,7 +57,7 @@ class LostTest(unittest.TestCase):
             for many in counts(size):
                 likely = [lot for lot in every if len(lot) <= size - many]
                 for steps in chance.sample(likely, min(len(likely), 5)) + [chance.choice(every)]:
-                    self.check(size, steps, many, survives_by_all_lots(size, steps, many))
+                    self.check(size, steps, many, reckon.survives(size, steps, many))
 
     def test_waves_that_follow_one_another(self):
         for size in reckon.SIZES:

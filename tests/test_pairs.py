@@ -10,14 +10,6 @@ from wavespots.pairs import (
 PRIME_POWERS = {2: 2, 3: 3, 4: 2, 5: 5, 7: 7, 8: 2, 9: 3, 11: 11}
 
 
-def differences(size, lot):
-    return {(one - other) % size for one in lot for other in lot if one != other}
-
-
-def is_pair(size, moments, steps):
-    return differences(size, steps) <= set(reckon.zero_steps(size, moments))
-
-
 def has_pair(size, moments):
     """Whether some lot of as many makes an even pair: those with 0 in it are tried step by step."""
     zeros = set(reckon.zero_steps(size, moments))
@@ -31,23 +23,6 @@ def has_pair(size, moments):
         )
 
     return grows((0,))
-
-
-def is_partner(size, moments, lot):
-    return sorted((one + other) % size for one in moments for other in lot) == list(range(size))
-
-
-def has_partner(size, moments):
-    """Whether moved lots cover each moment just once: the first one that is free is covered next."""
-    moved = [{(moment + by) % size for moment in moments} for by in range(size)]
-
-    def covers(free):
-        if not free:
-            return True
-        first = min(free)
-        return any(covers(free - lot) for lot in moved if first in lot and lot <= free)
-
-    return covers(set(range(size)))
 
 
 def sees_its_share(size, moments, signal):
@@ -104,7 +79,7 @@ class EvenPairTest(unittest.TestCase):
     def test_both_ways_round(self):
         for size in reckon.SIZES:
             for moments, steps in self.pairs(size):
-                expected = is_pair(size, moments, steps)
+                expected = reckon.is_even_pair(size, moments, steps)
                 self.assertIs(is_even_pair(size, moments, steps), expected)
                 if expected:
                     self.assertLessEqual(len(steps), len(moments))
@@ -147,7 +122,7 @@ class EvenPairTest(unittest.TestCase):
                 if found is not None:
                     self.assertEqual((type(found), len(found), found[0]), (tuple, len(moments), 0))
                     self.assertEqual(found, tuple(sorted(set(found))))
-                    self.assertTrue(is_pair(size, moments, found))
+                    self.assertTrue(reckon.is_even_pair(size, moments, found))
 
 
 class SignsTest(unittest.TestCase):
@@ -188,11 +163,11 @@ class PartnerTest(unittest.TestCase):
         for size in reckon.SIZES:
             for moments in reckon.lots(size, 1):
                 found = partner_of(size, moments)
-                self.assertEqual(found is not None, has_partner(size, moments))
+                self.assertEqual(found is not None, reckon.has_partner(size, moments))
                 if found is not None:
                     self.assertEqual((type(found), found[0]), (tuple, 0))
                     self.assertEqual(found, tuple(sorted(set(found))))
-                    self.assertTrue(is_partner(size, moments, found))
+                    self.assertTrue(reckon.is_partner(size, moments, found))
 
     def test_one_moment_and_all(self):
         for size in reckon.SIZES:

@@ -14,6 +14,16 @@ def whole_table(size, moments, waves):
     return [[whole_root(size, moment * step) for step in waves] for moment in moments]
 
 
+def with_units(size, rows):
+    """The rows, each with a 1 behind it at its own index, and 0 at those of the others."""
+    one = whole_root(size, 0)
+    nil = scaled(one, 0)
+    found = []
+    for at, row in enumerate(rows):
+        found.append(row + [one if at == other else nil for other in range(len(rows))])
+    return found
+
+
 def first_place(row):
     """The index of the first whole of a row that is not nought; None."""
     for index, whole in enumerate(row):

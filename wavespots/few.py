@@ -2,7 +2,7 @@
 
 from wavespots.elimination import kernel, whole_table
 from wavespots.lots import beside, check_full_lot
-from wavespots.numbers import check_divisor, check_index, check_many, check_size
+from wavespots.numbers import check_divisor, check_index, check_many, check_size, divisors_of
 from wavespots.settling import signal_of, unsettled_lot
 from wavespots.signals import places_of, spread, wave, waves_of
 from wavespots.wholes import scaled, sum_of
@@ -29,22 +29,29 @@ def least_by_line(size, many):
     """The least number of waves that the line between neighbouring divisors lets for so many places."""
     check_size(size)
     check_many(size, many)
-    divisors = [count for count in range(1, size + 1) if size % count == 0]
-    low = max([count for count in divisors if count <= many])
-    high = min([count for count in divisors if count >= many])
+    divisors = divisors_of(size)
+    low = max([divisor for divisor in divisors if divisor <= many])
+    high = min([divisor for divisor in divisors if divisor >= many])
     return -(-size * (low + high - many) // (low * high))
 
 
-def fewest_waves(size, moments):
-    """The least number of waves of a signal, not nought, with places within the moments."""
+def sparsest_lot(size, moments):
+    """A lot of as few waves as a signal, not nought, with places within the moments can have."""
     check_size(size)
     check_full_lot(size, moments)
     others = beside(size, moments)
     most = size + 1 - len(moments)
     for many in range(least_by_line(size, len(moments)), most):
-        if unsettled_lot(size, others, many) is not None:
-            return many
-    return most
+        lot = unsettled_lot(size, others, many)
+        if lot is not None:
+            return lot
+    # so many waves are more than the moments beside, which settle none of as many
+    return tuple(range(most))
+
+
+def fewest_waves(size, moments):
+    """The least number of waves of a signal, not nought, with places within the moments."""
+    return len(sparsest_lot(size, moments))
 
 
 def mixture(rows, factor):

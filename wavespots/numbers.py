@@ -40,6 +40,20 @@ def check_many(size, many):
         raise InvalidCount(many)
 
 
+def divisors_of(count):
+    """The divisors of a count from 1 on, ascending."""
+    return [divisor for divisor in range(1, count + 1) if count % divisor == 0]
+
+
+def prime_of(count):
+    """The prime that a count above 1 is a power of; None if it is a power of none."""
+    prime = divisors_of(count)[1]
+    rest = count
+    while rest % prime == 0:
+        rest = rest // prime
+    return prime if rest == 1 else None
+
+
 def check_divisor(size, divisor):
     """Refuse what is no divisor of the size."""
     if not is_whole_from(divisor, 1, size) or size % divisor != 0:
@@ -96,6 +110,13 @@ def first_no_number(size, row):
         if not is_number(size, value):
             return index
     return None
+
+
+def is_row(size, value, length):
+    """Whether a value, whatever it is, is a tuple of so many numbers of the size."""
+    if type(value) is not tuple or len(value) != length:
+        return False
+    return first_no_number(size, value) is None
 
 
 def root(size, step):

@@ -1,7 +1,7 @@
 """Even pairs: which moments see the same share of all signals' energy, and which have a partner."""
 
 from wavespots.lots import check_full_lot, lots_with_nought
-from wavespots.numbers import check_size
+from wavespots.numbers import check_size, divisors_of, prime_of
 from wavespots.wholes import rest_by_round
 
 
@@ -20,24 +20,33 @@ def is_zero_step(size, moments, step):
     return not any(rest_by_round(size, turns))
 
 
-def differ_by(size, lot, steps):
-    """Whether all differences of unlike indexes of the lot, going round, are among the steps."""
-    return all([(one - other) % size in steps for one in lot for other in lot if one != other])
+def odd_ones(size, lot, steps):
+    """Two unlike indexes of the lot whose difference, going round, is none of the steps; None."""
+    for one in lot:
+        for other in lot:
+            if one != other and (one - other) % size not in steps:
+                return one, other
+    return None
+
+
+def uneven_waves(size, moments, waves):
+    """Two unlike waves whose difference, going round, is no zero step of the moments; None."""
+    check_size(size)
+    check_full_lot(size, moments)
+    check_full_lot(size, waves)
+    return odd_ones(size, waves, zero_steps(size, moments))
 
 
 def is_even_pair(size, moments, waves):
     """Whether the moments and the waves are an even pair."""
-    check_size(size)
-    check_full_lot(size, moments)
-    check_full_lot(size, waves)
-    return differ_by(size, waves, zero_steps(size, moments))
+    return uneven_waves(size, moments, waves) is None
 
 
 def even_pair_of(size, moments):
     """A lot with 0 in it, of as many indexes, that makes an even pair with the moments; None."""
     steps = zero_steps(size, moments)
     for lot in lots_with_nought(size, len(moments) - 1):
-        if differ_by(size, lot, steps):
+        if odd_ones(size, lot, steps) is None:
             return lot
     return None
 
@@ -45,16 +54,7 @@ def even_pair_of(size, moments):
 def parts_in(size, moments):
     """The divisors above 1 whose round polynomials divide the sum of x^j over the moments j."""
     steps = zero_steps(size, moments)
-    return tuple([count for count in range(2, size + 1) if size % count == 0 and size // count in steps])
-
-
-def prime_of(count):
-    """The prime that a count above 1 is a power of; None if it is a power of none."""
-    prime = min([divisor for divisor in range(2, count + 1) if count % divisor == 0])
-    rest = count
-    while rest % prime == 0:
-        rest = rest // prime
-    return prime if rest == 1 else None
+    return tuple([divisor for divisor in divisors_of(size)[1:] if size // divisor in steps])
 
 
 def has_first_sign(size, moments):

@@ -1,16 +1,14 @@
 """Signals: a number for each moment, and the parts of the waves in them."""
 
 from wavespots.errors import InvalidSignal
-from wavespots.numbers import check_index, check_size, first_no_number, nought, root, times
-from wavespots.wholes import conjugated, number_of, product_of, scaled, sum_of, sums_of_turns, whole_root, whole_row
+from wavespots.numbers import check_index, check_size, first_no_number, is_row, nought, root, times
+from wavespots.wholes import conjugated, number_of, product_of, sum_of_products, sums_of_turns, whole_row
 
 
 def is_signal(size, value):
     """Whether a value, whatever it is, is a signal of the size."""
     check_size(size)
-    if type(value) is not tuple or len(value) != size:
-        return False
-    return first_no_number(size, value) is None
+    return is_row(size, value, size)
 
 
 def check_signal(size, signal):
@@ -79,10 +77,8 @@ def energy(size, signal):
     check_size(size)
     check_signal(size, signal)
     row, below = whole_row(signal)
-    total = scaled(whole_root(size, 0), 0)
-    for whole in row:
-        total = sum_of(total, product_of(size, whole, conjugated(size, whole, size - 1)))
-    return number_of(total, below * below)
+    mirrored_row = [conjugated(size, whole, size - 1) for whole in row]
+    return number_of(sum_of_products(size, row, mirrored_row), below * below)
 
 
 def places_of(size, signal):

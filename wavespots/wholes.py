@@ -114,6 +114,14 @@ def product_of(size, whole, other):
     return rest_by_round(size, sums)
 
 
+def sum_of_products(size, row, others):
+    """The sum of all products of a whole of a row and that of another row at the same index."""
+    total = scaled(whole_root(size, 0), 0)
+    for whole, other in zip(row, others):
+        total = sum_of(total, product_of(size, whole, other))
+    return total
+
+
 def conjugated(size, whole, unit):
     """A whole with the power of the first root that has this step in the place of the root."""
     turns = [0] * size
