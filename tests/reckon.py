@@ -20,9 +20,11 @@ def divided(above, below):
     rest = list(above)
     quotient = [0] * max(len(rest) - len(below) + 1, 0)
     for low in reversed(range(len(quotient))):
-        quotient[low] = rest[low + len(below) - 1]
-        for at, part in enumerate(below):
-            rest[low + at] -= quotient[low] * part
+        quotient[low] = lead = rest[low + len(below) - 1]
+        if lead:
+            for at, part in enumerate(below):
+                if part:
+                    rest[low + at] -= lead * part
     return quotient, rest[:len(below) - 1]
 
 
@@ -57,7 +59,8 @@ def times(size, number, other):
     product = [Fraction(0)] * (2 * phi(size))
     for at, part in enumerate(number):
         for by, more in enumerate(other):
-            product[at + by] += part * more
+            if part and more:
+                product[at + by] += part * more
     return tuple(divided(product, round_of(size))[1])
 
 
@@ -82,7 +85,8 @@ def turned_sum(size, numbers, steps):
     turns = [0] * size
     for number, step in zip(numbers, steps):
         for at, part in enumerate(number):
-            turns[(at + step) % size] += part
+            if part:
+                turns[(at + step) % size] += part
     return from_turns(size, turns)
 
 
